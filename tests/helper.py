@@ -325,3 +325,32 @@ def fewest_to_break(program, many):
     """The fewest enterings with which a promise can be broken, None where at most so many break none."""
     found = [price for state, price in prices_of(program, many).items() if broken_in(program, *state)]
     return min(found, default=None)
+
+
+def turns_in(program, row, place):
+    """The turns at which a frame may stand at a place: just 0 at main's end."""
+    places = program[1][row][2]
+    return range(len(plan(program[0], places[place][0]))) if place < len(places) else range(1)
+
+
+def stands_in(program, row):
+    """All stands of a row."""
+    count = len(program[1][row][2]) + (1 if row == 0 else 0)
+    return [(row, place, turn) for place in range(count) for turn in turns_in(program, row, place)]
+
+
+def bells_above(program, stands):
+    """The bells that may enter where these stand."""
+    pile = tuple(stand + ((),) for stand in stands)
+    return [bell for bell in range(1, len(program[1])) if may_come_in(program, pile, bell)]
+
+
+def gone_to(program, words):
+    """The machine behind just as many turns as there are words, and whether an anew has gone back on the way."""
+    model = Model(program)
+    back = False
+    for word in words:
+        event = model.turn(word)
+        if event[0] == "turn" and event[3] > 0 and model.pile[-1][:3] == (event[1], event[2], 0):
+            back = True
+    return model, back
