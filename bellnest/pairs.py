@@ -1,0 +1,86 @@
+"""Pairs of deeds that share a box, and ringings that make them meet."""
+
+from bellnest.cells import cells_of
+from bellnest.deeds import deed_of
+from bellnest.errors import NoNest
+from bellnest.frames import word_at
+from bellnest.nests import ringings_to
+from bellnest.spans import spans, touches_box, writes_box
+
+
+def deed_at(program, row, place):
+    """The deed at a place of a row."""
+    return program[1][row][2][place][0]
+
+
+def word_of(program, i, p, j, both):
+    """The word of a pair of place p of row i and a deed of row j, where both write the box or not."""
+    rows = program[1]
+    if rows[j][1] <= rows[i][1]:
+        return "rank"
+    if word_at(program, i, p) >> j & 1:
+        return "shut"
+    return "over" if both else "half"
+
+
+def users_of(program, x):
+    """Tuples (row, place, writes) of all deeds that touch box x: whether they write it."""
+    boxes = program[0]
+    users = []
+    for number, row in enumerate(program[1]):
+        for place, told in enumerate(row[2]):
+            if touches_box(boxes, told[0], x):
+                users.append((number, place, writes_box(boxes, told[0], x)))
+    return users
+
+
+def begun_at(boxes, deed, x):
+    """The first turn of the deed's span of box x, or None where it spans it not."""
+    turns = [span[1] for span in spans(boxes, deed) if span[0] == x]
+    return turns[0] if turns != [] else None
+
+
+def pairs_of_box(program, x):
+    """All pairs with box x."""
+    users = users_of(program, x)
+    found = []
+    for i, p, first in users:
+        if begun_at(program[0], deed_at(program, i, p), x) is None:
+            continue
+        for j, q, second in users:
+            if j != i and (first or second):
+                found.append((x, i, p, j, q, word_of(program, i, p, j, first and second)))
+    return found
+
+
+def pairs(program):
+    """All pairs, rising."""
+    found = []
+    for x in range(len(program[0])):
+        found.extend(pairs_of_box(program, x))
+    return sorted(found)
+
+
+def first_touch(boxes, deed, x):
+    """The first turn at which the deed touches box x."""
+    made = deed_of(boxes, deed)
+    cells = cells_of(boxes, x)
+    turn = 0
+    while not any([cell in cells for cell in made.reads(turn) + made.writes(turn)]):
+        turn = turn + 1
+    return turn
+
+
+def meeting(program, pair):
+    """Ringings whose run does a turn of the pair's second deed amid its first one, or NoNest."""
+    x = pair[0]
+    i = pair[1]
+    j = pair[3]
+    if pair[5] not in ("over", "half"):
+        raise NoNest(j)
+    begun = begun_at(program[0], deed_at(program, i, pair[2]), x)
+    # main's end is shut to none, so that every bell may enter there
+    below = [(0, len(program[1][0][2]), 0)] if i > 0 else []
+    amid = (i, pair[2], begun + 1)
+    above = (j, pair[4], first_touch(program[0], deed_at(program, j, pair[4]), x))
+    return ringings_to(program, below + [amid, above])
