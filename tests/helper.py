@@ -354,3 +354,24 @@ def gone_to(program, words):
         if event[0] == "turn" and event[3] > 0 and model.pile[-1][:3] == (event[1], event[2], 0):
             back = True
     return model, back
+
+
+def bars_in(program):
+    """All bars, as promise 31 tells them."""
+    rows = program[1]
+    found = []
+    for row, (name, rank, places) in enumerate(rows):
+        for place, (deed, word) in enumerate(places):
+            for bell in range(1, len(rows)):
+                if rows[bell][1] > rank and not word & (1 << bell):
+                    found.append((row, place, bell))
+    return found
+
+
+def with_bars(program, bars):
+    """The program in which these places are shut to these bells, too."""
+    rows = []
+    for row, (name, rank, places) in enumerate(program[1]):
+        shut = [sum(1 << bar[2] for bar in bars if bar[:2] == (row, place)) for place in range(len(places))]
+        rows.append((name, rank, tuple((deed, word | more) for (deed, word), more in zip(places, shut))))
+    return (program[0], tuple(rows))
