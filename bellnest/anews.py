@@ -1,7 +1,5 @@
 """Readings anew: by which bells they are loose, and ringings that loosen them."""
 
-from bellnest.cells import cells_of
-from bellnest.deeds import deed_of
 from bellnest.frames import word_at
 from bellnest.nests import ringings_to
 from bellnest.spans import writes_box
@@ -50,22 +48,9 @@ def loose(program, row, place):
     return None
 
 
-def first_writing(boxes, deed, watched):
-    """The first turn at which the deed writes one of these boxes."""
-    made = deed_of(boxes, deed)
-    cells = []
-    for box in watched:
-        cells.extend(cells_of(boxes, box))
-    turn = 0
-    while not any([cell in cells for cell in made.writes(turn)]):
-        turn = turn + 1
-    return turn
-
-
 def loosening(program, row, place, found):
     """Ringings in whose run the deed found writes t or y while the anew reads."""
-    anew = deed_at(program, row, place)
-    turn = first_writing(program[0], deed_at(program, found[0], found[1]), anew[2:])
     # main's end is shut to none, so that every bell may enter there
     below = [(0, len(program[1][0][2]), 0)] if row > 0 else []
-    return ringings_to(program, below + [(row, place, 1), (found[0], found[1], turn)])
+    # behind these words the run goes on with all of the deed found
+    return ringings_to(program, below + [(row, place, 1), (found[0], found[1], 0)])

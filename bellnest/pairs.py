@@ -1,7 +1,5 @@
 """Pairs of deeds that share a box, and ringings that make them meet."""
 
-from bellnest.cells import cells_of
-from bellnest.deeds import deed_of
 from bellnest.errors import NoNest
 from bellnest.frames import word_at
 from bellnest.nests import ringings_to
@@ -61,26 +59,16 @@ def pairs(program):
     return sorted(found)
 
 
-def first_touch(boxes, deed, x):
-    """The first turn at which the deed touches box x."""
-    made = deed_of(boxes, deed)
-    cells = cells_of(boxes, x)
-    turn = 0
-    while not any([cell in cells for cell in made.reads(turn) + made.writes(turn)]):
-        turn = turn + 1
-    return turn
-
-
 def meeting(program, pair):
     """Ringings whose run does a turn of the pair's second deed amid its first one, or NoNest."""
     x = pair[0]
     i = pair[1]
+    p = pair[2]
     j = pair[3]
     if pair[5] not in ("over", "half"):
         raise NoNest(j)
-    begun = begun_at(program[0], deed_at(program, i, pair[2]), x)
+    begun = begun_at(program[0], deed_at(program, i, p), x)
     # main's end is shut to none, so that every bell may enter there
     below = [(0, len(program[1][0][2]), 0)] if i > 0 else []
-    amid = (i, pair[2], begun + 1)
-    above = (j, pair[4], first_touch(program[0], deed_at(program, j, pair[4]), x))
-    return ringings_to(program, below + [amid, above])
+    # behind these words the run goes on with all of the second deed
+    return ringings_to(program, below + [(i, p, begun + 1), (j, pair[4], 0)])
