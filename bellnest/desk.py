@@ -72,7 +72,7 @@ class Desk:
         """The answer to a line, or NoLine; NoBell and TooMany go on."""
         words = line.split(" ")
         numbers = [number_of(word) for word in words[1:]]
-        if len(words) == 1 and line in ("show", "depth", "pairs", "anews"):
+        if line in ("show", "depth", "pairs", "anews"):
             return self.tell(line)
         if words[0] == "run" and None not in numbers:
             return run_lines(self.program, numbers)

@@ -16,14 +16,13 @@ def add_walk(program, state, price, most, prices):
 def table(program, many, most=300):
     """A list of tuples (state, price), or TooMany."""
     prices = {}
-    fresh = [begin(program)]
+    add_walk(program, begin(program), 0, most, prices)
+    count = 0
     # all states of one price are there ahead of the next price, so that each is found at its fewest enterings
-    for price in range(many + 1):
+    for price in range(1, many + 1):
+        last = list(prices)[count:]
         count = len(prices)
-        for state in fresh:
-            add_walk(program, state, price, most, prices)
-        fresh = []
-        if price < many:
-            for state in list(prices)[count:]:
-                fresh.extend([come(program, state, bell) for bell in may_come(program, state)])
+        for state in last:
+            for bell in may_come(program, state):
+                add_walk(program, come(program, state, bell), price, most, prices)
     return list(prices.items())
